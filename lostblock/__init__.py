@@ -1,0 +1,1 @@
+"""Lostblock: prints from carved blocks that only ever lose wood."""
