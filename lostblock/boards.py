@@ -7,6 +7,10 @@ SIGN_IN = "#"
 SIGN_OUT = "."
 
 
+def is_whole(thing):
+    return isinstance(thing, int) and not isinstance(thing, bool)
+
+
 def place_of(size, cell):
     return cell[1] * size[0] + cell[0]
 
