@@ -10,10 +10,11 @@ def walked(wishes, asker_of, starts):
     came_by = {}
     place = 0
     while place < len(askers):
-        for giver in wishes[askers[place]]:
+        asker = askers[place]
+        for giver in wishes[asker]:
             if giver in came_by:
                 continue
-            came_by[giver] = askers[place]
+            came_by[giver] = asker
             if giver not in asker_of:
                 return (giver, askers, came_by)
             askers.append(asker_of[giver])

@@ -5,6 +5,6 @@ LONGEST_WORD = 8
 
 
 def is_word(text):
-    if not 1 <= len(text) <= LONGEST_WORD:
+    if not isinstance(text, str) or not 1 <= len(text) <= LONGEST_WORD:
         return False
     return all([sign in LETTERS for sign in text])

@@ -45,6 +45,10 @@ class Words(unittest.TestCase):
         for text in ("A", "Red", "reD", "RED", "0", "red1", "1red", "12345678"):
             self.assertIs(is_word(text), False, text)
 
+    def test_things_that_are_no_texts(self):
+        for thing in (None, True, 0, 5, (), ("r", "e", "d"), ["red"], ["r", "e", "d"], {}, b"red"):
+            self.assertIs(is_word(thing), False, repr(thing))
+
 
 if __name__ == "__main__":
     unittest.main()
