@@ -18,9 +18,22 @@ EIGHT_MIXED = ("c", [
 ])
 BENCHES = [PLAIN, GLAZED, SINGLE, EIGHT_COVERS, EIGHT_GLAZES, EIGHT_MIXED]
 
+
+class Touchy:
+    """A thing that can't be held against another one."""
+
+    def __eq__(self, other):
+        raise RuntimeError("held against something")
+
+    def __repr__(self):
+        return "Touchy()"
+
+
 OTHER_THINGS = (
     None, True, False, 0, 1, -1, 1.5, "", "row", "cut", b"row", [], {}, (), (0,), set(), object(), len, range(4),
     ("row",), ("row", 0, 0), ["row", 0, 0, 0], "row 0 0 0", ("print", 0), ["print", 0, 0], ("cut", 0),
+    Touchy(), (Touchy(), 0, 0, 0), (Touchy(), 0, 0), ("row", Touchy(), 0, 0), ("print", 0, Touchy()), ("cut", 0, Touchy()),
+    ("cut", 0, (Touchy(), 0, 0, 0)), ("print", Touchy(), 0),
 )
 
 

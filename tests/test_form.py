@@ -32,6 +32,8 @@ WORDS_NOWHERE = (
     r"\b(type|typing|typing_extensions|enum|Enum|IntEnum|StrEnum|Flag|IntFlag|Generic|Protocol|ABC|ABCMeta"
     r"|namedtuple|NamedTuple|TypedDict|TYPE_CHECKING|abstractmethod)\b|dataclass|overload|contextmanager"
 )
+WALKED_AT_ONCE = ("zip", "enumerate", "reversed", "range", "items", "keys", "values")
+WALKERS = ("list", "tuple", "dict", "sorted", "sum", "any", "all", "enumerate", "zip", "min", "max")
 
 
 def files():
@@ -44,6 +46,25 @@ def trees():
 
 def nodes(kind):
     return [(name, node) for name, tree in trees() for node in ast.walk(tree) if isinstance(node, kind)]
+
+
+def called(node):
+    """The name of what a call calls: a function's or a method's."""
+    return node.func.attr if isinstance(node.func, ast.Attribute) else getattr(node.func, "id", None)
+
+
+def parents(tree):
+    return {child: node for node in ast.walk(tree) for child in ast.iter_child_nodes(node)}
+
+
+def is_walked(call, parent):
+    if isinstance(parent, (ast.For, ast.comprehension)):
+        return parent.iter is call
+    return isinstance(parent, ast.Call) and called(parent) in WALKERS and parent.args[0] is call
+
+
+def drawn_from(tree):
+    return {node.module.split(".")[1] for node in tree.body if isinstance(node, ast.ImportFrom)}
 
 
 class Form(unittest.TestCase):
@@ -117,6 +138,78 @@ class Form(unittest.TestCase):
         for name, node in nodes(ast.Call):
             if isinstance(node.func, ast.Attribute):
                 self.assertIn(node.func.attr, METHODS | own, (name, node.lineno))
+
+    def test_no_two_files_draw_from_one_another(self):
+        left = {name[:-3]: drawn_from(tree) for name, tree in trees()}
+        while left:
+            free = [name for name in left if not left[name] & set(left)]
+            self.assertNotEqual(free, [], left)
+            for name in free:
+                left.pop(name)
+
+    def test_names_are_drawn_from_the_file_that_defines_them(self):
+        tops = {}
+        for name, tree in trees():
+            tops[name[:-3]] = [getattr(node, "name", None) for node in tree.body] + [
+                target.id for node in tree.body if isinstance(node, ast.Assign) for target in node.targets
+            ]
+        for name, node in nodes(ast.ImportFrom):
+            for alias in node.names:
+                self.assertIn(alias.name, tops[node.module.split(".")[1]], (name, node.lineno))
+                self.assertIsNone(alias.asname, (name, node.lineno))
+        for name, bound in tops.items():
+            bound = [one for one in bound if one is not None]
+            self.assertEqual(len(bound), len(set(bound)), name)
+
+    def test_no_local_is_called_like_an_import_or_a_top_name(self):
+        for name, tree in trees():
+            tops = {alias.name for node in tree.body if isinstance(node, ast.ImportFrom) for alias in node.names}
+            tops |= {node.name for node in tree.body if isinstance(node, (ast.ClassDef, ast.FunctionDef))}
+            for part in tree.body:
+                if not isinstance(part, (ast.FunctionDef, ast.ClassDef)):
+                    continue
+                for node in ast.walk(part):
+                    if isinstance(node, ast.Name) and isinstance(node.ctx, ast.Store):
+                        self.assertNotIn(node.id, tops, (name, node.lineno))
+                    if isinstance(node, ast.arg):
+                        self.assertNotIn(node.arg, tops, (name, node.lineno))
+
+    def test_no_name_is_a_method_and_a_value(self):
+        methods = {part.name for name, node in nodes(ast.ClassDef) for part in node.body if isinstance(part, ast.FunctionDef)}
+        for name, node in nodes(ast.Attribute):
+            if isinstance(node.ctx, ast.Store):
+                self.assertNotIn(node.attr, methods | METHODS, (name, node.lineno))
+
+    def test_is_stands_beside_none_true_and_false_alone(self):
+        for name, node in nodes(ast.Compare):
+            for operator, other in zip(node.ops, node.comparators):
+                if isinstance(operator, (ast.Is, ast.IsNot)):
+                    self.assertIsInstance(other, ast.Constant, (name, node.lineno))
+                    self.assertIn(other.value, (None, True, False), (name, node.lineno))
+
+    def test_ranges_and_their_like_are_walked_at_once(self):
+        for name, tree in trees():
+            above = parents(tree)
+            for node in ast.walk(tree):
+                if isinstance(node, ast.Call) and called(node) in WALKED_AT_ONCE:
+                    self.assertTrue(is_walked(node, above[node]), (name, node.lineno))
+
+    def test_what_a_loop_walks_is_not_changed_in_it(self):
+        for name, node in nodes(ast.For):
+            walked = {part.id for part in ast.walk(node.iter) if isinstance(part, ast.Name)} - {"self"}
+            for part in ast.walk(node):
+                if isinstance(part, ast.Call) and called(part) in ("append", "extend", "pop", "insert", "remove", "clear"):
+                    self.assertNotIn(ast.unparse(part.func.value), walked, (name, part.lineno))
+                if isinstance(part, ast.Subscript) and isinstance(part.ctx, ast.Store):
+                    self.assertNotIn(ast.unparse(part.value), walked, (name, part.lineno))
+
+    def test_no_sets_and_no_powers(self):
+        for name, node in nodes(ast.Name):
+            self.assertNotIn(node.id, ("set", "frozenset"), (name, node.lineno))
+        for name, node in nodes(ast.BinOp):
+            self.assertNotIsInstance(node.op, ast.Pow, (name, node.lineno))
+        for name, node in nodes(ast.Constant):
+            self.assertNotIn("%", str(node.value), (name, node.lineno))
 
 
 if __name__ == "__main__":

@@ -391,6 +391,17 @@ class Told(ShopTest):
         self.assert_refused(NoName, shop, "lacks", "oak")
         self.assert_refused(NoName, shop, "can", ["oak"])
 
+    def test_names_of_other_kinds_are_the_names_of_nothing(self):
+        shop = plain_shop()
+        shop.block("oak")
+        shop.sheet("one")
+        for thing in (None, 0, True, ["one"], {}, ("oak",), b"oak"):
+            for deed in ("block", "sheet", "spoil", "wood", "shows", "lacks"):
+                self.assert_refused(NoName, shop, deed, thing)
+            self.assert_refused(NoName, shop, "can", [thing])
+            self.assert_refused(NoName, shop, "cut", thing, ("row", 0, 0, 0))
+            self.assert_refused(NoName, shop, "print_on", "oak", thing, "one")
+
     def test_every_set_of_prints(self):
         for bench in BENCHES:
             many = len(bench[1])
